@@ -1,0 +1,1 @@
+"""Packhall: packed texts that are read, sought and counted as they lie."""
