@@ -2,8 +2,8 @@
 
 from packhall.bits import low_bits, number_of
 from packhall.errors import Broken, NoCode
+from packhall.signs import LAST_SIGN
 
-LAST_SIGN = 255
 LONGEST_WORD = 256
 
 

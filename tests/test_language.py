@@ -34,6 +34,10 @@ NamedTuple TypedDict TYPE_CHECKING abstractmethod""".split()
 UNSAID_WITHIN = ["dataclass", "overload", "contextmanager"]
 UNUSED = """register mro elements open input version_info with_traceback add_note format format_map""".split()
 
+VIEWS = ["zip", "enumerate", "reversed", "range"]
+VIEW_METHODS = ["items", "keys", "values"]
+WALKERS = ["list", "tuple", "dict", "sorted", "sum", "any", "all", "enumerate", "zip"]
+
 
 def files():
     return sorted(name for name in os.listdir(PACKAGE) if name != "__pycache__")
@@ -58,6 +62,38 @@ def top_names(tree):
         elif isinstance(node, ast.ImportFrom):
             names += [alias.asname or alias.name for alias in node.names]
     return names
+
+
+def defined_names(tree):
+    own = [node for node in tree.body if not isinstance(node, ast.ImportFrom)]
+    return top_names(ast.Module(body=own, type_ignores=[]))
+
+
+def is_call_of(node, names):
+    return isinstance(node, ast.Call) and isinstance(node.func, ast.Name) and node.func.id in names
+
+
+def is_view(node):
+    """Whether a value is one that is only walked on the spot."""
+    if is_call_of(node, VIEWS):
+        return True
+    return isinstance(node, ast.Call) and isinstance(node.func, ast.Attribute) and node.func.attr in VIEW_METHODS
+
+
+def walked_on_the_spot(tree):
+    places = []
+    for node in ast.walk(tree):
+        if isinstance(node, (ast.For, ast.comprehension)):
+            places.append(node.iter)
+        elif is_call_of(node, ["zip"]):
+            places += node.args
+        elif is_call_of(node, WALKERS):
+            places += node.args[:1]
+        elif is_call_of(node, ["min", "max"]) and len(node.args) == 1:
+            places += node.args
+        elif isinstance(node, ast.Call) and isinstance(node.func, ast.Attribute) and node.func.attr == "join":
+            places += node.args
+    return places
 
 
 def inner_names(tree):
@@ -148,7 +184,7 @@ class Language(unittest.TestCase):
                     self.assertEqual((node.level, node.module.split(".")[0]), (0, "packhall"), name)
                     other = node.module.split(".")[1] + ".py"
                     drawn[name].append(other)
-                    defined = [part.name for part in ast.parse(source(other)).body if hasattr(part, "name")]
+                    defined = defined_names(ast.parse(source(other)))
                     for alias in node.names:
                         self.assertIn(alias.name, defined, name)
         left = dict(drawn)
@@ -188,6 +224,35 @@ class Language(unittest.TestCase):
             for node in ast.walk(tree):
                 if isinstance(node, ast.Attribute):
                     self.assertIn(node.attr, METHODS + own + DUNDERS, name)
+
+    def test_walked_at_once(self):
+        for name, tree in trees():
+            walked = walked_on_the_spot(tree)
+            for node in ast.walk(tree):
+                if is_view(node):
+                    self.assertIn(node, walked, "%s, row %s" % (name, node.lineno))
+
+    def test_classes(self):
+        methods = []
+        values = []
+        for name, tree in trees():
+            for node in ast.walk(tree):
+                if isinstance(node, ast.ClassDef):
+                    self.assertIn(node, tree.body, name)
+                    self.assertLessEqual(len(node.bases), 1, node.name)
+                    self.assertEqual(node.keywords, [], node.name)
+                    defs = [part.name for part in node.body if not isinstance(part, ast.Pass)]
+                    self.assertEqual(len(defs), len(set(defs)), node.name)
+                    methods += defs
+                elif isinstance(node, ast.Attribute) and isinstance(node.ctx, ast.Store):
+                    values.append(node.attr)
+                elif isinstance(node, ast.FunctionDef) and node.name == "__init__":
+                    for part in ast.walk(node):
+                        self.assertFalse(isinstance(part, ast.Return) and part.value is not None, name)
+        self.assertEqual(set(methods) & set(values), set())
+        for word in methods + values:
+            for kind in (str, int, list, dict, set, bytes):
+                self.assertFalse(word not in DUNDERS + METHODS + ["add", "discard"] and hasattr(kind, word), word)
 
 
 if __name__ == "__main__":
