@@ -1,7 +1,24 @@
-"""What a sign is: a whole number from 0 to the last one."""
+"""What whole numbers, signs and stretches are, as several modules ask it."""
+
+from packhall.errors import NoPlace
 
 LAST_SIGN = 255
+MOST_SIGNS = 400
 
 
-def are_signs(numbers):
-    return all([0 <= number <= LAST_SIGN for number in numbers])
+def is_whole(thing):
+    # True and False are ints to Python, but no whole numbers here.
+    return isinstance(thing, int) and not isinstance(thing, bool)
+
+
+def is_sign(thing):
+    return is_whole(thing) and 0 <= thing <= LAST_SIGN
+
+
+def are_signs(things):
+    return all([is_sign(thing) for thing in things])
+
+
+def refuse_no_stretch(first, last, length):
+    if first < 0 or first > last or last > length:
+        raise NoPlace("there is no such stretch")

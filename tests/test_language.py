@@ -36,6 +36,7 @@ UNUSED = """register mro elements open input version_info with_traceback add_not
 
 VIEWS = ["zip", "enumerate", "reversed", "range"]
 VIEW_METHODS = ["items", "keys", "values"]
+CHANGERS = ["append", "clear", "extend", "insert", "pop", "remove", "reverse", "setdefault", "update"]
 WALKERS = ["list", "tuple", "dict", "sorted", "sum", "any", "all", "enumerate", "zip"]
 
 
@@ -94,6 +95,23 @@ def walked_on_the_spot(tree):
         elif isinstance(node, ast.Call) and isinstance(node.func, ast.Attribute) and node.func.attr == "join":
             places += node.args
     return places
+
+
+def walked_by_name(loop):
+    """The names that a loop walks, itself or through what only hands them on."""
+    if isinstance(loop.iter, ast.Call):
+        return [node.id for node in loop.iter.args if isinstance(node, ast.Name)] if is_view(loop.iter) else []
+    return [loop.iter.id] if isinstance(loop.iter, ast.Name) else []
+
+
+def changed_by_name(loop):
+    changed = []
+    for node in ast.walk(loop):
+        if isinstance(node, ast.Call) and isinstance(node.func, ast.Attribute) and node.func.attr in CHANGERS:
+            changed.append(node.func.value)
+        elif isinstance(node, ast.Subscript) and isinstance(node.ctx, ast.Store):
+            changed.append(node.value)
+    return [node.id for node in changed if isinstance(node, ast.Name)]
 
 
 def inner_names(tree):
@@ -231,6 +249,23 @@ class Language(unittest.TestCase):
             for node in ast.walk(tree):
                 if is_view(node):
                     self.assertIn(node, walked, "%s, row %s" % (name, node.lineno))
+
+    def test_what_is_walked_is_not_changed(self):
+        for name, tree in trees():
+            for node in ast.walk(tree):
+                if isinstance(node, ast.For):
+                    both = set(walked_by_name(node)) & set(changed_by_name(node))
+                    self.assertEqual(both, set(), "%s, row %s" % (name, node.lineno))
+
+    def test_refusals_are_the_programs_own(self):
+        own = defined_names(ast.parse(source("errors.py")))
+        for name, tree in trees():
+            for node in ast.walk(tree):
+                if isinstance(node, ast.ExceptHandler):
+                    self.assertIsInstance(node.type, ast.Name, name)
+                    self.assertIn(node.type.id, own, name)
+                elif isinstance(node, ast.Raise):
+                    self.assertTrue(is_call_of(node.exc, own), "%s, row %s" % (name, node.lineno))
 
     def test_classes(self):
         methods = []
