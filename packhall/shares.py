@@ -3,7 +3,7 @@
 from packhall.bits import low_bits, number_of, read_row, row_bits
 from packhall.codes import are_counts, counts_of
 from packhall.errors import Broken
-from packhall.signs import MOST_SIGNS, is_whole
+from packhall.signs import MOST_SIGNS, is_whole, paired, unpaired
 
 
 def is_pair(thing):
@@ -77,21 +77,12 @@ def bits_enough(texts):
 
 def share_bits(text):
     share = share_of(text)
-    numbers = []
-    for sign, times in share[0]:
-        numbers.extend([sign, times])
-    return row_bits(numbers) + low_bits(share[1], bits_enough(orders_of(share[0])))
-
-
-def counts_by(numbers):
-    if len(numbers) % 2 == 1:
-        raise Broken("a sign has no times")
-    return [(numbers[at], numbers[at + 1]) for at in range(0, len(numbers), 2)]
+    return row_bits(unpaired(share[0])) + low_bits(share[1], bits_enough(orders_of(share[0])))
 
 
 def read_share(bits, at):
     head = read_row(bits, at)
-    counts = counts_by(head[0])
+    counts = paired(head[0])
     behind = head[1] + bits_enough(texts_with(counts))
     if behind > len(bits):
         raise Broken("the bits end within a number")

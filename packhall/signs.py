@@ -1,6 +1,6 @@
-"""What whole numbers, signs and stretches are, as several modules ask it."""
+"""What whole numbers, signs, bits, pairs and stretches are, as several modules ask it."""
 
-from packhall.errors import NoPlace
+from packhall.errors import Broken, NoPlace
 
 LAST_SIGN = 255
 MOST_SIGNS = 400
@@ -17,6 +17,23 @@ def is_sign(thing):
 
 def are_signs(things):
     return all([is_sign(thing) for thing in things])
+
+
+def are_bits(things):
+    return all([is_whole(thing) and 0 <= thing <= 1 for thing in things])
+
+
+def unpaired(pairs):
+    numbers = []
+    for one, two in pairs:
+        numbers.extend([one, two])
+    return numbers
+
+
+def paired(numbers):
+    if len(numbers) % 2 == 1:
+        raise Broken("a number is without its other one")
+    return [(numbers[at], numbers[at + 1]) for at in range(0, len(numbers), 2)]
 
 
 def refuse_no_stretch(first, last, length):
